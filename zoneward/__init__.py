@@ -1,0 +1,1 @@
+"""Zoneward: a name service with zones, transfers and caching resolvers."""
