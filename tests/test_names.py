@@ -117,6 +117,12 @@ class IsWithinTest(unittest.TestCase):
         self.check(("x", "w"), ("*", "w"), False, False)
         self.check(("x", "*", "w"), ("*", "w"), True, True)
 
+    def test_names_beyond_the_largest_size(self):
+        self.check(TOO_LARGE, TOO_LARGE, True, False)
+        self.check(TOO_LARGE, TOO_LARGE[1:], True, True)
+        self.check(("a",) + TOO_LARGE, TOO_LARGE, True, True)
+        self.check(("a" * 64, "b"), ("b",), True, True)
+
     def test_against_every_end_of_a_name(self):
         source = random.Random(4)
         for _ in range(500):

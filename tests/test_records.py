@@ -117,6 +117,11 @@ class SetsOfTest(unittest.TestCase):
         found = sets_of([(("a",), "A", 1, 3)])
         self.assertEqual([found.__class__, found[0].__class__, found[0][3].__class__], [list, tuple, tuple])
 
+    def test_limits_that_are_passed_raise_no_error(self):
+        sets = [(("a" * 64,) * 5, "A", 2147483648, (4294967296,)), ((), "TXT", 2147483649, ("x" * 256,)),
+                (("b",), "MX", 3000000000, ((65536, ("c",)),))]
+        self.assertEqual(sets_of(records_of(sets)), sets)
+
     def test_the_sets_of_the_records_of_sets_are_these_sets(self):
         source = random.Random(6)
         for _ in range(300):
