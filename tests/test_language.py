@@ -145,6 +145,22 @@ class LanguageTest(unittest.TestCase):
             if isinstance(node, ast.Call) and isinstance(node.func, ast.Attribute):
                 self.assertIn(node.func.attr, METHODS | own, f"L25: {file} {node.lineno}")
 
+    def test_expressions_that_are_narrowed(self):
+        for file, node in self.nodes():
+            self.assertNotIsInstance(node, ast.GeneratorExp, f"L7, beside a class with __eq__: {file}")
+            if isinstance(node, ast.Call) and isinstance(node.func, ast.Name):
+                self.assertNotEqual(node.func.id, "bytes", f"L7: {file} {node.lineno}")
+            if isinstance(node, ast.Attribute):
+                self.assertNotIn(node.attr, ["to_bytes", "fromhex", "sort"], f"L7, L25: {file} {node.lineno}")
+
+    def test_no_two_files_import_from_each_other(self):
+        below = {file.removesuffix(".py"): {node.module.split(".")[-1] for node in tree.body
+                                            if isinstance(node, ast.ImportFrom)} for file, tree in TREES}
+        while below:
+            free = {file for file, needed in below.items() if not needed & set(below)}
+            self.assertTrue(free, f"L16: {sorted(below)}")
+            below = {file: needed for file, needed in below.items() if file not in free}
+
     def test_literals(self):
         for file, tree in TREES:
             notes = docstrings(tree)

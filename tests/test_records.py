@@ -6,7 +6,7 @@ import random
 import unittest
 
 from zoneward import records
-from zoneward.records import kind_of, records_of, sets_of
+from zoneward.records import code_of, kind_of, records_of, sets_of
 
 RECORD_CODES = {1: "A", 2: "NS", 5: "CNAME", 6: "SOA", 15: "MX", 16: "TXT"}
 QUERY_CODES = dict(RECORD_CODES) | {251: "IXFR", 252: "AXFR"}
@@ -156,6 +156,12 @@ class KindOfTest(unittest.TestCase):
         for code in (0, 3, 4, 7, 14, 17, 250, 253, 255, 256, 257, 65535):
             self.assertIsNone(kind_of(code))
             self.assertIsNone(kind_of(code, is_query=True))
+
+
+class CodeOfTest(unittest.TestCase):
+    def test_each_kind_has_its_code(self):
+        for code, kind in QUERY_CODES.items():
+            self.assertEqual(code_of(kind), code)
 
 
 class ArgumentsTest(unittest.TestCase):

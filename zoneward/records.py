@@ -1,7 +1,7 @@
 """Records `(name, kind, ttl, value)` and record sets `(name, kind, ttl, values)`."""
 
-RECORD_KINDS = {1: "A", 2: "NS", 5: "CNAME", 6: "SOA", 15: "MX", 16: "TXT"}
-TRANSFER_KINDS = {251: "IXFR", 252: "AXFR"}
+KIND_CODES = {"A": 1, "NS": 2, "CNAME": 5, "SOA": 6, "MX": 15, "TXT": 16, "IXFR": 251, "AXFR": 252}
+TRANSFER_KINDS = ("IXFR", "AXFR")
 
 
 def records_of(sets):
@@ -22,6 +22,12 @@ def sets_of(records):
 
 def kind_of(code, is_query=False):
     """Return the record kind or, if asked, the query kind with a code; None if there is none."""
-    if is_query and code in TRANSFER_KINDS:
-        return TRANSFER_KINDS[code]
-    return RECORD_KINDS.get(code)
+    for kind, known in KIND_CODES.items():
+        if known == code and (is_query or kind not in TRANSFER_KINDS):
+            return kind
+    return None
+
+
+def code_of(kind):
+    """Return the code of a query kind."""
+    return KIND_CODES[kind]
