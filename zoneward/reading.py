@@ -4,10 +4,9 @@ from zoneward.errors import InvalidForm, InvalidName, InvalidPointer, InvalidTex
 from zoneward.messages import (AUTHORITATIVE, CLASS_NUMBER, CODE_BITS, POINTER, QUESTION_COUNT, RECURSION, RESPONSE,
                                Message)
 from zoneward.names import LABEL_CHARACTERS, MAX_LABEL_LENGTH, MAX_NAME_SIZE, WILDCARD, name_size
-from zoneward.records import kind_of
+from zoneward.records import MAX_TTL, kind_of
 
 FIRST_POINTER_BYTE = 192
-MAX_TTL = 2147483647
 # The characters from the space on, but with a space where the percent sign would stand.
 CHARACTERS = " !\"#$ &'()*+,-./0123456789:;<=>?@ABCDEFGHIJKLMNOPQRSTUVWXYZ[\\]^_`abcdefghijklmnopqrstuvwxyz{|}~"
 FIRST_CODE = 32

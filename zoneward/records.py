@@ -2,6 +2,7 @@
 
 KIND_CODES = {"A": 1, "NS": 2, "CNAME": 5, "SOA": 6, "MX": 15, "TXT": 16, "IXFR": 251, "AXFR": 252}
 TRANSFER_KINDS = ("IXFR", "AXFR")
+MAX_TTL = 2147483647
 
 
 def records_of(sets):
