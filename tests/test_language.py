@@ -139,6 +139,35 @@ class LanguageTest(unittest.TestCase):
                 elif isinstance(node, ast.arg):
                     self.assertFalse(hasattr(builtins, node.arg), f"L15: {file} {node.lineno}")
 
+    def test_no_local_name_hides_a_class_or_an_import(self):
+        for file, tree in TREES:
+            above = {alias.name for node in tree.body if isinstance(node, ast.ImportFrom) for alias in node.names}
+            above |= {node.name for node in tree.body if isinstance(node, ast.ClassDef)}
+            for function in ast.walk(tree):
+                if isinstance(function, ast.FunctionDef):
+                    self.assertFalse(above & set(bound_names(ast.Module(function.body, []))), f"L15: {file}")
+                    self.assertFalse(above & {part.arg for part in ast.walk(function.args)
+                                              if isinstance(part, ast.arg)}, f"L15: {file}")
+
+    def test_methods_and_attributes(self):
+        assigned = set()
+        for file, node in self.nodes():
+            if isinstance(node, ast.ClassDef):
+                own = {part.attr for part in ast.walk(node) if isinstance(part, ast.Attribute)
+                       and isinstance(part.ctx, ast.Store) and isinstance(part.value, ast.Name)}
+                self.assertFalse(own & {part.name for part in node.body if isinstance(part, ast.FunctionDef)},
+                                 f"L18: {file} {node.name}")
+                assigned |= own
+        called = {node.func for _, node in self.nodes() if isinstance(node, ast.Call)}
+        for file, node in self.nodes():
+            if isinstance(node, ast.Attribute) and node not in called:
+                self.assertIn(node.attr, assigned, f"L18: {file} {node.lineno}")
+
+    def test_methods_with_the_names_of_builtin_ones_have_no_keywords(self):
+        for file, node in self.nodes():
+            if isinstance(node, ast.Call) and isinstance(node.func, ast.Attribute) and node.func.attr in METHODS:
+                self.assertEqual(node.keywords, [], f"L22: {file} {node.lineno}")
+
     def test_methods_that_are_called(self):
         own = {node.name for _, node in self.nodes() if isinstance(node, ast.FunctionDef)}
         for file, node in self.nodes():

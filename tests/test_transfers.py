@@ -155,6 +155,10 @@ class ZoneAfterTest(unittest.TestCase):
             self.check(zone, [], None)
             self.check(zone, records_of([TEXT]), None)
             self.check(zone, records_of([NS]), None)
+            for record in (*records_of([HOSTS[0]]), (("t", "z"), "TXT", 5, "x"), (ORIGIN, "NS", 80, ("s", "z"))):
+                self.check(zone, [record], None)
+                self.check(zone, [record, record], None)
+                self.check(zone, [record, *full_copy(ZONE), record], None)
             self.check(zone, full_copy(ZONE)[1:], None)
             self.check(zone, full_copy(ZONE)[:-1], None)
 

@@ -8,6 +8,14 @@ AUTHORITATIVE = 1024
 RECURSION = 256
 CODE_BITS = 15
 
+# How many numbers there are for messages.
+NUMBERS = 65536
+# The codes of responses.
+NO_ERROR = 0
+FAILURE = 2
+NO_SUCH_NAME = 3
+REFUSED = 5
+
 QUESTION_COUNT = 1
 CLASS_NUMBER = 1
 # A pointer to a place is the number POINTER plus the place, which is less than POINTER_LIMIT.
