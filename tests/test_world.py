@@ -157,6 +157,10 @@ class FatesTest(unittest.TestCase):
         # The first response is lost; the query's second copy arrives too late for the second one.
         self.check([3, 2], [1, 3], [(3, 99, 2, [])], 3)
 
+    def test_fates_beyond_the_limit_raise_no_error(self):
+        self.check([4, 9], [1], [(2, 99, 0, self.ANSWER)], 2)
+        self.check([-1], [1], [(2, 99, 0, self.ANSWER)], 2)
+
     def test_responses_to_clients_have_no_fate(self):
         self.check([0, 0, 2], [1], [(2, 99, 0, self.ANSWER)], 2)
         world, _ = small_world([0, 0, 2])

@@ -5,8 +5,8 @@ from zoneward.messages import Message, write_message
 from zoneward.reading import read_message
 from zoneward.servers import Secondary
 
-# After how many seconds a message arrives, by its fate.
-DELAYS = ((1,), (4,), (), (1, 3))
+# After how many seconds a message arrives, by its fate; a fate that is none of these is like the usual one.
+DELAYS = {0: (1,), 1: (4,), 2: (), 3: (1, 3)}
 USUAL_FATE = 0
 
 
@@ -58,7 +58,7 @@ class World:
         """Send a message on its way, as its fate tells."""
         fate = self.fates[self.sent] if self.sent < len(self.fates) else USUAL_FATE
         data = write_message(message)
-        for delay in DELAYS[fate]:
+        for delay in DELAYS.get(fate, DELAYS[USUAL_FATE]):
             self.arrivals.setdefault(self.now + delay, []).append((source, target, data))
         self.sent += 1
 
